@@ -1,0 +1,151 @@
+"""Draws and plain reckonings that the tests share; none of them uses the program."""
+
+import random
+from fractions import Fraction
+
+WORDS = {"yes": 0, "no": 0, "at": 0, "not": 1, "both": 2, "either": 2, "odd": 2, "most": 3}
+FORTY = 10 ** 40 - 1
+SEVEN = ("NoText", "Alike", "NoEnd", "NoThing", "NoRow", "NoName", "NoTable")
+
+
+def dice(name):
+    return random.Random(name)
+
+
+def frozen(thing):
+    """A thing with its kinds, for comparing: True is no 1, a list is no tuple."""
+    if isinstance(thing, (list, tuple)):
+        return (type(thing).__name__, tuple(frozen(part) for part in thing))
+    if isinstance(thing, dict):
+        return ("dict", tuple((frozen(name), frozen(part)) for name, part in thing.items()))
+    return (type(thing).__name__, thing)
+
+
+def nested(kind, deep, innermost):
+    thing = innermost
+    for _ in range(deep):
+        thing = {"list": [thing], "tuple": (thing,), "dict": {"in": thing}}[kind]
+    return thing
+
+
+def doubled(deep, word="both", innermost=("yes",)):
+    """A tuple that, written out, would have 2 ** deep ends."""
+    thing = innermost
+    for _ in range(deep):
+        thing = (word, thing, thing)
+    return thing
+
+
+def other_plain_things():
+    """Plain things that are no place, table, formula or sum of any number of switches."""
+    return [
+        None, True, False, -1, 10 ** 39, -(10 ** 39), FORTY, -FORTY,
+        "", "0", "1", "yes", "at 0", "x" * 200, "x" * 5000,
+        [], (), {}, [0], (0,), {0: 0}, [True, False], {"yes": True}, (None,), (None, None),
+        ((),), ([], []), ({}, {}), (("yes",),), ((0, 1),),
+        [0] * 3000, (0,) * 3000, (True,) * 3000, ("yes",) * 3000, ("both",) * 66,
+        nested("list", 60, 1), nested("tuple", 60, ("yes",)), nested("dict", 60, True),
+        nested("tuple", 60, 0), doubled(59), doubled(59, "odd", True), doubled(59, 0, 1),
+    ]
+
+
+def draw_plain(rng, deep=4):
+    kind = rng.randrange(9 if deep else 6)
+    if kind == 0:
+        return rng.choice((None, True, False))
+    if kind == 1:
+        return rng.randrange(-3, 70)
+    if kind == 2:
+        return rng.randrange(-FORTY, FORTY + 1)
+    if kind == 3:
+        return rng.choice(tuple(WORDS))
+    if kind < 6:
+        return "".join(chr(rng.choice([c for c in range(32, 127) if c != 37])) for _ in range(rng.randrange(9)))
+    parts = [draw_plain(rng, deep - 1) for _ in range(rng.randrange(5))]
+    if kind == 6:
+        return parts
+    if kind == 7:
+        return tuple(parts)
+    return {place: part for place, part in enumerate(parts)}
+
+
+def draw_table(rng, n):
+    return tuple(rng.random() < 0.5 for _ in range(2 ** n))
+
+
+def all_tables(n):
+    return [tuple(number // 2 ** place % 2 == 1 for place in range(2 ** n)) for number in range(2 ** 2 ** n)]
+
+
+def draw_formula(rng, n, many, deep):
+    """A formula of just so many formulas in all, at most deep within one another."""
+    if many == 1:
+        return rng.choice([("yes",), ("no",)] + [("at", switch) for switch in range(n)] * 3)
+    room = (3 ** (deep - 1) - 1) // 2
+    fits = [word for word, parts in WORDS.items() if parts and parts <= many - 1 <= parts * room]
+    word = rng.choice(fits)
+    sizes = [1] * WORDS[word]
+    for _ in range(many - 1 - len(sizes)):
+        sizes[rng.choice([part for part, size in enumerate(sizes) if size < room])] += 1
+    return (word,) + tuple(draw_formula(rng, n, size, deep - 1) for size in sizes)
+
+
+def size_of(formula):
+    return 1 + sum(size_of(part) for part in formula[1:] if isinstance(part, tuple))
+
+
+def depth_of(formula):
+    return 1 + max([depth_of(part) for part in formula[1:] if isinstance(part, tuple)], default=0)
+
+
+def is_on(place, switch):
+    return place // 2 ** switch % 2 == 1
+
+
+def switches_in(subset):
+    return [switch for switch in range(12) if is_on(subset, switch)]
+
+
+def sign_at(subset, place):
+    return (-1) ** len([switch for switch in switches_in(subset) if is_on(place, switch)])
+
+
+def value(answer):
+    return -1 if answer else 1
+
+
+def answer_of(formula, place):
+    """A formula's answer at a place, by Python's own operators on truths."""
+    word = formula[0]
+    if word == "yes":
+        return True
+    if word == "no":
+        return False
+    if word == "at":
+        return is_on(place, formula[1])
+    answers = [answer_of(part, place) for part in formula[1:]]
+    if word == "not":
+        return not answers[0]
+    if word == "both":
+        return answers[0] and answers[1]
+    if word == "either":
+        return answers[0] or answers[1]
+    if word == "odd":
+        return answers[0] ^ answers[1]
+    return sorted(answers)[1]
+
+
+def fraction_at(total, place):
+    return Fraction(sum(weight * sign_at(subset, place) for subset, weight in total[1]), 2 ** total[0])
+
+
+def slow_sum(table):
+    n = {2: 1, 4: 2, 8: 3, 16: 4, 32: 5, 64: 6}[len(table)]
+    weights = [
+        sum(value(answer) * SIGNS[subset][place] for place, answer in enumerate(table))
+        for subset in range(2 ** n)
+    ]
+    return (n, tuple((subset, weight) for subset, weight in enumerate(weights) if weight))
+
+
+SIGNS = [[sign_at(subset, place) for place in range(64)] for subset in range(64)]
