@@ -136,7 +136,7 @@ def answer_of(formula, place):
 
 
 def fraction_at(total, place):
-    return Fraction(sum(weight * sign_at(subset, place) for subset, weight in total[1]), 2 ** total[0])
+    return Fraction(sum(weight * SIGNS[subset][place] for subset, weight in total[1]), 2 ** total[0])
 
 
 def slow_sum(table):
@@ -146,6 +146,39 @@ def slow_sum(table):
         for subset in range(2 ** n)
     ]
     return (n, tuple((subset, weight) for subset, weight in enumerate(weights) if weight))
+
+
+def sum_with(n, weights):
+    return (n, tuple((subset, weight) for subset, weight in sorted(weights.items()) if weight))
+
+
+def draw_sum(rng, n):
+    """Any sum: weights small, heavy, or such as tables have."""
+    sets = rng.sample(range(2 ** n), rng.randrange(2 ** n + 1))
+    span = rng.choice((1, 2 ** n, 100, 10 ** 12))
+    return sum_with(n, {subset: rng.randrange(-span, span + 1) for subset in sets})
+
+
+def spoiled_sums(rng, total):
+    """A table's sum with one weight turned, two exchanged, all halved or doubled, one left out, one put in."""
+    n, weights = total[0], dict(total[1])
+    one, other = rng.choice(list(weights)), rng.choice(list(weights))
+    lacking = [subset for subset in range(2 ** n) if subset not in weights]
+    found = [
+        {**weights, one: -weights[one]},
+        {**weights, one: weights[other], other: weights[one]},
+        {subset: weight // 2 for subset, weight in weights.items()},
+        {subset: weight * 2 for subset, weight in weights.items()},
+        {**weights, one: 0},
+        {**weights, one: weights[one] + rng.choice((-2, -1, 1, 2))},
+        {subset: rng.choice((weight, -weight)) for subset, weight in weights.items()},
+        {subset ^ one: weight for subset, weight in weights.items()},
+    ]
+    if lacking:
+        found.append({**weights, rng.choice(lacking): rng.choice(list(weights.values()))})
+        found.append({**{subset: weight for subset, weight in weights.items() if subset != one},
+                      rng.choice(lacking): weights[one]})
+    return [sum_with(n, each) for each in found]
 
 
 SIGNS = [[sign_at(subset, place) for place in range(64)] for subset in range(64)]

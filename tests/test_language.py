@@ -34,6 +34,7 @@ NOWHERE = re.compile(r"\b(type|typing|typing_extensions|enum|Enum|IntEnum|StrEnu
                      r"|dataclass|overload|contextmanager")
 DUNDERS = ("__init__", "__eq__", "__repr__", "__str__", "__len__")
 WALKED = ("zip", "enumerate", "reversed", "range")
+WALKERS = ("list", "tuple", "dict", "sorted", "sum", "any", "all", "enumerate", "zip", "min", "max")
 
 
 def look_at_signs(text):
@@ -178,7 +179,7 @@ def walked_on_the_spot(tree):
         if isinstance(node, (ast.For, ast.comprehension)):
             found.append(node.iter)
         if isinstance(node, ast.Call) and isinstance(node.func, ast.Name) and node.args:
-            if node.func.id in ("list", "tuple", "dict", "sorted", "sum", "any", "all", "enumerate", "zip", "min", "max"):
+            if node.func.id in WALKERS:
                 found.append(node.args[0])
     return found
 
@@ -264,7 +265,8 @@ class Language(unittest.TestCase):
             "def f(a):\n    b = range(a)\n    return b", "def f(a):\n    a = b = 1\n    return a + b",
             "def f(a):\n    return [b for c in a for b in c]", "def f(a):\n    return a.sort()",
             "def f():\n    try:\n        f()\n    except Exception:\n        pass", "def f():\n    return chr(1)",
-            "def _f():\n    return 1", "class A:\n    x = 1", "class A(int, str):\n    pass", "def f(a: int):\n    return a",
+            "def _f():\n    return 1", "class A:\n    x = 1", "class A(int, str):\n    pass",
+            "def f(a: int):\n    return a",
             "def f():\n" + "    pass\n" * 40, "# " + "x" * 120, "# an enum", "x = '\u00e4'", "def f():\n    return '%'",
             "def f():\n    assert True", "def f():\n    with f():\n        pass", "def f():\n    return set([1])",
             "def f(a):\n    for b in a:\n        pass\n    else:\n        pass", "def f():\n    return unknown",
