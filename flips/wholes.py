@@ -11,7 +11,11 @@ def is_below(bound, thing):
 
 
 def two_to(n):
+    return power_of(2, n)
+
+
+def power_of(base, times):
     power = 1
-    for step in range(n):
-        power = power * 2
+    for step in range(times):
+        power = power * base
     return power

@@ -1,5 +1,7 @@
 """Draws and plain reckonings that the tests share; none of them uses the program."""
 
+import ast
+import inspect
 import random
 from fractions import Fraction
 
@@ -75,6 +77,71 @@ def draw_table(rng, n):
 
 def all_tables(n):
     return [tuple(number // 2 ** place % 2 == 1 for place in range(2 ** n)) for number in range(2 ** 2 ** n)]
+
+
+def tables_of(rng, n, many):
+    return [(True,) * 2 ** n, (False,) * 2 ** n] + [draw_table(rng, n) for _ in range(many)]
+
+
+def odd_table(n, subset):
+    return tuple(sign_at(subset, place) == -1 for place in range(2 ** n))
+
+
+def table_with(n, places):
+    return tuple(place in places for place in range(2 ** n))
+
+
+def table_on(rng, n, subset):
+    """A table that hangs on switches of the set alone."""
+    answers = draw_table(rng, n)
+    return tuple(answers[place & subset] for place in range(2 ** n))
+
+
+def various_tables(rng, n, many=2):
+    """Of one answer, odd of switches, with few yes or few no, of some switches alone, and others."""
+    sets = [2 ** n - 1] + [rng.randrange(2 ** n) for _ in range(many)]
+    few = [rng.sample(range(2 ** n), yeses) for yeses in range(1, min(3, 2 ** n))]
+    found = tables_of(rng, n, many) + [odd_table(n, subset) for subset in sets]
+    found += [table_with(n, places) for places in few]
+    found += [tuple(not answer for answer in table_with(n, places)) for places in few]
+    return found + [table_on(rng, n, subset) for subset in sets]
+
+
+def hanging(table):
+    """The set of the switches that, turned alone, turn the answer somewhere."""
+    switches = range(len(table).bit_length() - 1)
+    return sum(2 ** switch for switch in switches if any(
+        table[place] is not table[place ^ 2 ** switch] for place in range(len(table))
+    ))
+
+
+def as_share(fraction):
+    return (Fraction(fraction).numerator, Fraction(fraction).denominator)
+
+
+def shaking_shares(rng):
+    """Shares from 0 to 1: the edges, a half and near it, small ones, and ones with great bottoms."""
+    great = [Fraction(rng.randrange(FORTY), FORTY - rng.randrange(10 ** 6)) for _ in range(3)]
+    edges = [0, 1, Fraction(1, 2), Fraction(1, FORTY), Fraction(FORTY - 1, FORTY), Fraction(FORTY // 2, FORTY)]
+    small = [Fraction(top, bottom) for bottom in (3, 4, 10) for top in (1, bottom - 1)]
+    return [as_share(share) for share in edges + small + great]
+
+
+def shaking_tops(n, share):
+    """For each set the share, over the bottom to the n, with which just its switches are turned."""
+    tops = []
+    for turned in range(2 ** n):
+        top = 1
+        for switch in range(n):
+            top *= share[0] if is_on(turned, switch) else share[1] - share[0]
+        tops.append(top)
+    return tops
+
+
+def drawn_names(module):
+    """The names that a module draws from others."""
+    return [alias.name for node in ast.walk(ast.parse(inspect.getsource(module)))
+            if isinstance(node, ast.ImportFrom) for alias in node.names]
 
 
 def draw_formula(rng, n, many, deep):

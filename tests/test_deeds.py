@@ -3,11 +3,7 @@ import unittest
 
 from flips.deeds import both, fixed, odd, put, turned
 from flips.sums import is_sum
-from tests.helper import all_tables, dice, draw_table, fraction_at, frozen, is_on, slow_sum, value
-
-
-def tables_of(rng, n, many):
-    return [(True,) * 2 ** n, (False,) * 2 ** n] + [draw_table(rng, n) for _ in range(many)]
+from tests.helper import all_tables, dice, draw_table, fraction_at, frozen, is_on, slow_sum, tables_of, value
 
 
 def place_with(place, switch, answer):

@@ -1,10 +1,8 @@
-import ast
-import inspect
 import unittest
 
 from flips import selfsame
 from flips.selfsame import is_one_squared
-from tests.helper import all_tables, dice, draw_sum, draw_table, fraction_at, slow_sum, spoiled_sums
+from tests.helper import all_tables, dice, draw_sum, draw_table, drawn_names, fraction_at, slow_sum, spoiled_sums
 
 
 def is_one_by_places(total):
@@ -70,8 +68,7 @@ class OneSquared(unittest.TestCase):
         self.assertEqual(yeses, 16)
 
     def test_no_place_is_gone_to(self):
-        drawn = [alias.name for node in ast.walk(ast.parse(inspect.getsource(selfsame)))
-                 if isinstance(node, ast.ImportFrom) for alias in node.names]
+        drawn = drawn_names(selfsame)
         for name in ("sign", "comes_to", "told", "times_signs", "sum_of"):
             self.assertNotIn(name, drawn)
 

@@ -1,0 +1,23 @@
+"""What stays of a table under shaking, by its sum's levels."""
+
+from flips.mattering import squares_by_level
+from flips.shares import share_of
+from flips.wholes import power_of, two_to
+
+
+# Each part is brought over the bottom to the n, so that all of it is reckoned in whole numbers.
+def stays(one, share):
+    n = one[0]
+    bottom = share[1]
+    less = bottom - 2 * share[0]
+    parts = [
+        level * power_of(less, many) * power_of(bottom, n - many)
+        for many, level in enumerate(squares_by_level(one))
+    ]
+    whole = two_to(2 * n) * power_of(bottom, n)
+    return share_of(whole + sum(parts), 2 * whole)
+
+
+def once_for(one, other):
+    added = one[0] * other[1] + other[0] * one[1]
+    return share_of(added - 2 * one[0] * other[0], one[1] * other[1])
