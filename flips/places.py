@@ -34,3 +34,9 @@ def many_in(subset):
         many = many + rest % 2
         rest = rest // 2
     return many
+
+
+# Rising; where there are no more than k switches, the set of all of them stands for the sets of k.
+def sets_of(n, k):
+    many = min(n, k)
+    return [subset for subset in range(two_to(n)) if many_in(subset) == many]

@@ -1,7 +1,7 @@
 """Sums with signs: which things are sums, the sum of a table, and what a sum tells."""
 
 from flips.errors import NoTable
-from flips.places import is_place, sign, switches_of
+from flips.places import is_place, sign, switches_of, within
 from flips.shares import share_of
 from flips.wholes import is_whole, two_to
 
@@ -62,6 +62,11 @@ def weights_of(one):
     for subset, weight in one[1]:
         weights[subset] = weight
     return weights
+
+
+# Weights of the sets that have a switch outside the given set count as 0.
+def weights_within(one, outer):
+    return [weight if within(subset, outer) else 0 for subset, weight in enumerate(weights_of(one))]
 
 
 def sum_from(n, weights):

@@ -1,6 +1,7 @@
 """Draws and plain reckonings that the tests share; none of them uses the program."""
 
 import ast
+import functools
 import inspect
 import random
 from fractions import Fraction
@@ -107,12 +108,46 @@ def various_tables(rng, n, many=2):
     return found + [table_on(rng, n, subset) for subset in sets]
 
 
+def small_and_various_tables(rng, many):
+    """All tables of one to three switches, and various ones of four to six."""
+    small = [table for n in (1, 2, 3) for table in all_tables(n)]
+    return small + [table for n in (4, 5, 6) for table in various_tables(rng, n, many)]
+
+
 def hanging(table):
     """The set of the switches that, turned alone, turn the answer somewhere."""
     switches = range(len(table).bit_length() - 1)
     return sum(2 ** switch for switch in switches if any(
         table[place] is not table[place ^ 2 ** switch] for place in range(len(table))
     ))
+
+
+def sets_with(n, k):
+    """The sets of k switches, rising, or the set of all where there are no more than k."""
+    return [subset for subset in range(2 ** n) if len(switches_in(subset)) == min(n, k)]
+
+
+def differing(table, other):
+    return sum(answer is not other[place] for place, answer in enumerate(table))
+
+
+def slow_best(table, subset):
+    """The best table of a set, counted setting by setting, and at how many places it differs."""
+    yeses, nos = {}, {}
+    for place, answer in enumerate(table):
+        counted = yeses if answer else nos
+        counted[place & subset] = counted.get(place & subset, 0) + 1
+    best = tuple(yeses.get(place & subset, 0) > nos.get(place & subset, 0) for place in range(len(table)))
+    return (best, differing(table, best))
+
+
+def slow_nearest(table, k):
+    found = None
+    for subset in sets_with(len(table).bit_length() - 1, k):
+        best = slow_best(table, subset)
+        if found is None or best[1] < found[1]:
+            found = best
+    return found
 
 
 def as_share(fraction):
@@ -206,6 +241,7 @@ def fraction_at(total, place):
     return Fraction(sum(weight * SIGNS[subset][place] for subset, weight in total[1]), 2 ** total[0])
 
 
+@functools.lru_cache(maxsize=None)
 def slow_sum(table):
     n = {2: 1, 4: 2, 8: 3, 16: 4, 32: 5, 64: 6}[len(table)]
     weights = [

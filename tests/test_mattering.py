@@ -3,8 +3,8 @@ from fractions import Fraction
 
 from flips.mattering import altogether, hangs_on, levels, matters
 from flips.walked import matters_at
-from tests.helper import all_tables, as_share, dice, frozen, hanging, is_on, odd_table, slow_sum, switches_in, \
-    table_on, table_with, various_tables
+from tests.helper import as_share, dice, frozen, hanging, is_on, odd_table, slow_sum, small_and_various_tables, \
+    switches_in, table_on, table_with, various_tables
 
 
 def turned_at(place, subset):
@@ -36,18 +36,10 @@ class Mattering(unittest.TestCase):
         self.assertEqual(frozen(matters(total, 0)), frozen((0, 1)))
         self.assertEqual(frozen([matters(total, subset) for subset in (1, 2, 3)]), frozen([(1, 2)] * 3))
 
-    def test_all_small_tables_and_sets(self):
-        for n in (1, 2, 3):
-            for table in all_tables(n):
-                for subset in range(2 ** n):
-                    self.look_at(table, subset)
-
-    def test_various_tables_and_all_sets(self):
-        rng = dice("mattering")
-        for n in range(4, 7):
-            for table in various_tables(rng, n):
-                for subset in range(2 ** n):
-                    self.look_at(table, subset)
+    def test_small_and_various_tables_and_all_sets(self):
+        for table in small_and_various_tables(dice("mattering"), 2):
+            for subset in range(len(table)):
+                self.look_at(table, subset)
 
     def test_the_empty_set_matters_nowhere(self):
         rng = dice("empty set")
@@ -88,10 +80,7 @@ class Mattering(unittest.TestCase):
 
 class HangsOn(unittest.TestCase):
     def test_small_and_various_tables(self):
-        rng = dice("hangs on")
-        tables = [table for n in (1, 2, 3) for table in all_tables(n)]
-        tables += [table for n in range(4, 7) for table in various_tables(rng, n, 10)]
-        for table in tables:
+        for table in small_and_various_tables(dice("hangs on"), 10):
             self.assertEqual(frozen(hangs_on(slow_sum(table))), frozen(hanging(table)))
 
     def test_none_some_and_all(self):
@@ -135,10 +124,7 @@ class Levels(unittest.TestCase):
         self.assertEqual(frozen(altogether(total)), frozen((1, 1)))
 
     def test_small_and_various_tables(self):
-        rng = dice("levels")
-        tables = [table for n in (1, 2, 3) for table in all_tables(n)]
-        tables += [table for n in range(4, 7) for table in various_tables(rng, n, 10)]
-        for table in tables:
+        for table in small_and_various_tables(dice("levels"), 10):
             self.look_at(table)
 
     def test_one_answer_and_odd(self):
