@@ -30,8 +30,8 @@ def has_paper_form(n, thing):
     return all([is_pair(cover) and is_place(n, cover[0]) for cover in thing[1]])
 
 
-# At how many more places the two tables agree than differ: 2 ** n - 2 * d. That is the sum, over all places, of the
-# product of their values, and so, by the weights, the sum of the products of the weights over 2 ** n.
+# At how many more places the two tables agree than differ: the number of places less 2 * d. That is the sum, over all
+# places, of the product of their values; the products of their weights, added up, come to it times that number.
 def lead_of(one, total):
     return met(one[1], weights_of(total), 0) // two_to(one[0])
 
