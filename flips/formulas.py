@@ -1,5 +1,7 @@
 """Formulas of switches: which things are formulas, and the tables that they tell."""
 
+from flips.nesting import keeps_to
+from flips.places import is_on
 from flips.wholes import is_below, two_to
 
 # How many formulas stand behind each word.
@@ -30,23 +32,8 @@ def formulas_within(formula):
     return () if formula[0] == "at" else formula[1:]
 
 
-# Level by level, so that a thing far beyond the bounds is left as soon as it is beyond them.
 def is_formula(n, thing):
-    level = [thing]
-    depth = 1
-    many = 1
-    while len(level) > 0:
-        if is_too_large(many, depth):
-            return False
-        below = []
-        for part in level:
-            if not has_form(n, part):
-                return False
-            below.extend(formulas_within(part))
-        level = below
-        depth = depth + 1
-        many = many + len(level)
-    return True
+    return keeps_to(lambda part: has_form(n, part), formulas_within, is_too_large, thing)
 
 
 def table_of(n, formula):
@@ -55,7 +42,7 @@ def table_of(n, formula):
 
 def says_yes(formula, place):
     if formula[0] == "at":
-        return place // two_to(formula[1]) % 2 == 1
+        return is_on(place, formula[1])
     yeses = len([part for part in formulas_within(formula) if says_yes(part, place)])
     return joins_to_yes(formula[0], yeses)
 

@@ -5,9 +5,17 @@ from flips.shares import share_of
 from flips.wholes import two_to
 
 
-# A set has an odd number of switches in common with another one just where its sign there is -1.
 def matters(one, subset):
-    return over_all(one, sum([weight * weight for each, weight in one[1] if sign(each, subset) == -1]))
+    return over_all(one, odd_squares(one, subset))
+
+
+def odd_squares(one, subset):
+    return sum([weight * weight for each, weight in one[1] if is_odd_with(each, subset)])
+
+
+# A set has an odd number of switches in common with another one just where its sign there is -1.
+def is_odd_with(one, other):
+    return sign(one, other) == -1
 
 
 def hangs_on(one):

@@ -19,6 +19,10 @@ def switches_of(table):
     return len(table).bit_length() - 1
 
 
+def is_on(place, switch):
+    return place // two_to(switch) % 2 == 1
+
+
 def sign(subset, place):
     return -1 if many_in(subset & place) % 2 == 1 else 1
 
@@ -34,6 +38,14 @@ def many_in(subset):
         many = many + rest % 2
         rest = rest // 2
     return many
+
+
+def set_holding(members):
+    return sum([two_to(member) for member in members])
+
+
+def members_of(subset):
+    return tuple([member for member in range(subset.bit_length()) if is_on(subset, member)])
 
 
 # Rising; where there are no more than k switches, the set of all of them stands for the sets of k.

@@ -5,14 +5,17 @@ from flips.shares import share_of
 from flips.wholes import power_of, two_to
 
 
-# Each part is brought over the bottom to the n, so that all of it is reckoned in whole numbers.
 def stays(one, share):
-    n = one[0]
+    return stays_by(one[0], squares_by_level(one), share)
+
+
+# Each part is brought over the bottom to the n, so that all of it is reckoned in whole numbers.
+def stays_by(n, squares, share):
     bottom = share[1]
     less = bottom - 2 * share[0]
     parts = [
         level * power_of(less, many) * power_of(bottom, n - many)
-        for many, level in enumerate(squares_by_level(one))
+        for many, level in enumerate(squares)
     ]
     whole = two_to(2 * n) * power_of(bottom, n)
     return share_of(whole + sum(parts), 2 * whole)

@@ -10,6 +10,11 @@ HEAVIEST = 1000000000000
 
 
 def is_sum(thing):
+    return has_terms(thing) and all([0 < abs(weight) <= HEAVIEST for subset, weight in thing[1]])
+
+
+# The form that sums and glances have in common; how great the weights may be is told of each.
+def has_terms(thing):
     if not is_pair(thing) or not is_whole(thing[0]) or not isinstance(thing[1], tuple):
         return False
     return 1 <= thing[0] <= MOST_SWITCHES and are_terms(thing[0], thing[1])
@@ -29,9 +34,7 @@ def are_terms(n, terms):
 
 
 def is_term(n, thing):
-    if not is_pair(thing) or not is_place(n, thing[0]) or not is_whole(thing[1]):
-        return False
-    return thing[1] != 0 and abs(thing[1]) <= HEAVIEST
+    return is_pair(thing) and is_place(n, thing[0]) and is_whole(thing[1])
 
 
 def sum_of(table):

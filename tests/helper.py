@@ -3,6 +3,7 @@
 import ast
 import functools
 import inspect
+import itertools
 import random
 from fractions import Fraction
 
@@ -177,6 +178,107 @@ def drawn_names(module):
     """The names that a module draws from others."""
     return [alias.name for node in ast.walk(ast.parse(inspect.getsource(module)))
             if isinstance(node, ast.ImportFrom) for alias in node.names]
+
+
+def draw_answers(rng, things):
+    return tuple(rng.random() < 0.5 for _ in range(things))
+
+
+def draw_game(rng, things, rows, labels=3):
+    """Any game: it may end or not."""
+    drawn = tuple(rng.randrange(-1, labels - 1) for _ in range(things))
+    return (drawn, tuple(draw_answers(rng, things) for _ in range(rows)))
+
+
+def draw_ending_game(rng, things, rows, labels=3):
+    """A game in which things that answer all alike have one label."""
+    drawn = tuple(draw_answers(rng, things) for _ in range(rows))
+    by_answers = {pattern: rng.randrange(-1, labels - 1) for pattern in zip(*drawn)}
+    return (tuple(by_answers[pattern] for pattern in zip(*drawn)), drawn)
+
+
+def singled_game(things):
+    """Each question singles out one thing, each thing has a label of its own: it needs one ask less than it has."""
+    return (tuple(range(things)), tuple(tuple(thing == one for thing in range(things)) for one in range(things)))
+
+
+def slow_unparted(game):
+    """The first two things of unlike labels that answer all alike, or None."""
+    for one, other in itertools.combinations(range(len(game[0])), 2):
+        if game[0][one] != game[0][other] and all(row[one] is row[other] for row in game[1]):
+            return (one, other)
+    return None
+
+
+def sets_of_things(game):
+    things = range(len(game[0]))
+    return [chosen for many in range(len(things) + 1) for chosen in itertools.combinations(things, many)]
+
+
+def slow_left(game, things, question, answer):
+    return tuple(sorted(set(things) & {thing for thing, said in enumerate(game[1][question]) if said is answer}))
+
+
+@functools.lru_cache(maxsize=None)
+def are_enough(game, things, asks):
+    """Whether some way of so many asks, any questions, tells the labels of these things apart."""
+    if len({game[0][thing] for thing in things}) <= 1:
+        return True
+    return asks > 0 and any(
+        all(are_enough(game, slow_left(game, things, question, answer), asks - 1) for answer in (True, False))
+        for question in range(len(game[1]))
+    )
+
+
+def slow_fewest(game, things):
+    return next(asks for asks in itertools.count() if are_enough(game, things, asks))
+
+
+def slow_first(game, things):
+    """The first question by which the fewest asks are enough, or None where there is nothing to ask."""
+    asks = slow_fewest(game, things)
+    for question in range(len(game[1])) if asks else ():
+        if all(are_enough(game, slow_left(game, things, question, answer), asks - 1) for answer in (True, False)):
+            return question
+    return None
+
+
+def slow_tree(game, things):
+    question = slow_first(game, things)
+    if question is None:
+        return ("say", game[0][things[0]])
+    return ("ask", question) + tuple(slow_tree(game, slow_left(game, things, question, answer))
+                                     for answer in (False, True))
+
+
+def draw_tree(rng, game, deep):
+    """Any tree of the game, perhaps with labels that no thing has."""
+    if deep == 1 or rng.random() < 0.3:
+        return ("say", rng.choice(game[0] + (FORTY, -7)))
+    return ("ask", rng.randrange(len(game[1])), draw_tree(rng, game, deep - 1), draw_tree(rng, game, deep - 1))
+
+
+def sized_tree(asks):
+    """A tree of so many asks, as flat as it can be: 2 * asks + 1 trees in all."""
+    if asks == 0:
+        return ("say", 0)
+    return ("ask", 0, sized_tree((asks - 1) // 2), sized_tree(asks - 1 - (asks - 1) // 2))
+
+
+def long_tree(deep, innermost=("say", 0)):
+    """So many trees within one another."""
+    tree = innermost
+    for step in range(deep - 1):
+        tree = ("ask", 0, tree, ("say", 0)) if step % 2 else ("ask", 0, ("say", 0), tree)
+    return tree
+
+
+def doubled_tree(deep):
+    """A tree that holds one tree twice, and so on: 2 ** deep - 1 in all, counted as often as they stand."""
+    tree = ("say", 0)
+    for _ in range(deep - 1):
+        tree = ("ask", 0, tree, tree)
+    return tree
 
 
 def draw_formula(rng, n, many, deep):

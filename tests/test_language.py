@@ -34,6 +34,7 @@ NOWHERE = re.compile(r"\b(type|typing|typing_extensions|enum|Enum|IntEnum|StrEnu
                      r"|dataclass|overload|contextmanager")
 DUNDERS = ("__init__", "__eq__", "__repr__", "__str__", "__len__")
 WALKED = ("zip", "enumerate", "reversed", "range")
+WALKED_METHODS = ("items", "keys", "values")
 WALKERS = ("list", "tuple", "dict", "sorted", "sum", "any", "all", "enumerate", "zip", "min", "max")
 
 
@@ -169,8 +170,39 @@ def look_at_names(tree, methods, defined):
                 yield "L25 method"
             if isinstance(node.func, ast.Name) and node.func.id in WALKED and node not in walked:
                 yield "L23 kept"
-            if isinstance(node.func, ast.Name) and node.func.id in ("set", "frozenset"):
+            if isinstance(node.func, ast.Attribute) and node.func.attr in WALKED_METHODS and node not in walked:
+                yield "L23 kept"
+            if isinstance(node.func, ast.Name) and node.func.id == "frozenset":
                 yield "L24 set"
+
+
+def look_at_sets(tree):
+    """L24: a set stands straight within sorted or len, without a keyword, or behind in."""
+    right = []
+    for node in ast.walk(tree):
+        if isinstance(node, ast.Call) and isinstance(node.func, ast.Name) and node.func.id in ("sorted", "len"):
+            right += node.args if not node.keywords else []
+        if isinstance(node, ast.Compare) and isinstance(node.ops[0], (ast.In, ast.NotIn)):
+            right += node.comparators
+    for node in ast.walk(tree):
+        if isinstance(node, ast.Call) and isinstance(node.func, ast.Name) and node.func.id == "set":
+            if node not in right:
+                yield "L24 set"
+
+
+def look_at_keywords(tree):
+    """L22: keywords only where they are listed, and never at a method."""
+    listed = {"sorted": ("key", "reverse"), "min": ("key", "default"), "max": ("key", "default"),
+              "sum": ("start",), "enumerate": ("start",), "zip": ("strict",)}
+    for node in ast.walk(tree):
+        if isinstance(node, ast.Call):
+            name = node.func.id if isinstance(node.func, ast.Name) else ""
+            if any(keyword.arg not in listed.get(name, ()) for keyword in node.keywords):
+                yield "L22 keyword"
+            if name == "isinstance" and not all(isinstance(part, (ast.Name, ast.Tuple)) for part in node.args[1:]):
+                yield "L22 isinstance"
+            if any(isinstance(part, ast.Name) and part.id in OWN_NAMES for part in node.args) and name != "isinstance":
+                yield "L22 kept"
 
 
 def walked_on_the_spot(tree):
@@ -208,6 +240,7 @@ def methods_in(tree):
 def faults_of(text, methods):
     tree = ast.parse(text)
     faults = list(look_at_signs(text)) + list(look_at_top(tree)) + list(look_at_defs(tree))
+    faults += list(look_at_sets(tree)) + list(look_at_keywords(tree))
     return faults + list(look_at_steps(tree)) + list(look_at_names(tree, methods, names_defined(tree)))
 
 
@@ -269,6 +302,9 @@ class Language(unittest.TestCase):
             "def f(a: int):\n    return a",
             "def f():\n" + "    pass\n" * 40, "# " + "x" * 120, "# an enum", "x = '\u00e4'", "def f():\n    return '%'",
             "def f():\n    assert True", "def f():\n    with f():\n        pass", "def f():\n    return set([1])",
+            "def f(a):\n    return sorted(set(a), reverse=True)", "def f(a):\n    return [b for b in set(a)]",
+            "def f(a):\n    b = a.items()\n    return b", "def f(a):\n    return f(len)",
+            "def f(a):\n    return a.split(sep=a)",
             "def f(a):\n    for b in a:\n        pass\n    else:\n        pass", "def f():\n    return unknown",
         ]
         for text in wrong:
