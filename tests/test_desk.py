@@ -373,8 +373,9 @@ class Refused(DeskCase):
         self.told(self.desk, "left", "a b")
 
     def test_no_row_ahead_of_no_name(self):
-        for row in ("matters z 4", "matters z", "matters z 01", "stays z 3 2", "stays z 0 0", "stays z 1", "nearest z 5",
-                    "find z", "find z z z z z z z z z z z", "find z A", "table z z", "drop z ", "fewest z 1", "sum  z"):
+        for row in ("matters z 4", "matters z", "matters z 01", "stays z 3 2", "stays z 0 0", "stays z 1",
+                    "nearest z 5", "find z", "find z z z z z z z z z z z", "find z A", "table z z", "drop z ",
+                    "fewest z 1", "sum  z"):
             self.no_row(self.desk, row)
         self.stands()
 
